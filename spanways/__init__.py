@@ -1,0 +1,1 @@
+"""Spanways: stretches of time and what may lie between two of them."""
