@@ -1,7 +1,7 @@
 """Finds where a file of the package leaves the part of Python that the program keeps to.
 
 It sees what a look at single places of a file shows (of the rules L2 to L8, L10, L12, L14, L15, L17, L20, L21,
-L25 and L27); what hangs on how values are used from row to row is left to the reader.
+L23 to L25 and L27); what hangs on how values are used from row to row is left to the reader.
 """
 
 import ast
@@ -39,6 +39,8 @@ def faults(source, package="spanways"):
     found = text_faults(source)
     tree = ast.parse(source)
     found += top_faults(tree, package)
+    found += shadow_faults(tree)
+    found += place_faults(tree)
     for node in ast.walk(tree):
         row = getattr(node, "lineno", 0)
         found += [(row, what) for what in node_faults(node, tree)]
@@ -81,6 +83,60 @@ def top_faults(tree, package):
             found.append((row, "L3 not for the top of a file"))
     found += [(0, f"L15 {name} is bound twice") for name in sorted(set(bound)) if bound.count(name) > 1]
     return found
+
+
+def shadow_faults(tree):
+    """Locals and parameters that are called like a class or an import of the file."""
+    taken = {node.name for node in ast.walk(tree) if isinstance(node, ast.ClassDef)}
+    taken |= {node.asname or node.name for node in ast.walk(tree) if isinstance(node, ast.alias)}
+    found = []
+    for node in ast.walk(tree):
+        bound = isinstance(node, ast.arg) or isinstance(node, ast.Name) and isinstance(node.ctx, ast.Store)
+        if bound and names_of(node)[0] in taken:
+            found.append((node.lineno, f"L15 {names_of(node)[0]} is a class or an import of the file"))
+    return found
+
+
+def called(node, names):
+    return isinstance(node, ast.Call) and isinstance(node.func, ast.Name) and node.func.id in names
+
+
+def place_faults(tree):
+    """Walks that are kept, and sets that stand elsewhere than on the spot."""
+    above = {child: node for node in ast.walk(tree) for child in ast.iter_child_nodes(node)}
+    found = []
+    for node in ast.walk(tree):
+        if walk_made(node) and not walked(node, above[node]):
+            found.append((node.lineno, "L23 not walked on the spot"))
+        if called(node, {"set", "frozenset"}) and not set_on_the_spot(node, above):
+            found.append((node.lineno, "L24 a set that is kept or walked"))
+    return found
+
+
+def walk_made(node):
+    if called(node, {"zip", "enumerate", "reversed", "range"}):
+        return True
+    return isinstance(node, ast.Call) and isinstance(node.func, ast.Attribute) and (
+        node.func.attr in {"items", "keys", "values"})
+
+
+def walked(node, parent):
+    if isinstance(parent, (ast.For, ast.comprehension)):
+        return parent.iter is node
+    if called(parent, {"zip"}):
+        return node in parent.args
+    if called(parent, {"list", "tuple", "dict", "sorted", "sum", "any", "all", "enumerate"}):
+        return parent.args[:1] == [node]
+    return called(parent, {"min", "max"}) and parent.args == [node]
+
+
+def set_on_the_spot(node, above):
+    parent = above[node]
+    while isinstance(parent, ast.BinOp) and isinstance(parent.op, (ast.Sub, ast.BitAnd, ast.BitOr, ast.BitXor)):
+        parent = above[parent]
+    if isinstance(parent, ast.Compare):
+        return all(isinstance(op, (ast.In, ast.NotIn, ast.Eq, ast.NotEq)) for op in parent.ops)
+    return called(parent, {"sorted", "len"}) and not parent.keywords
 
 
 def plain(value, within=False):

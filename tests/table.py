@@ -6,8 +6,20 @@ TABLE = [
     ("lappedby", 2, 4), ("joinedby", 3, 4), ("behind", 4, 4),
 ]
 
+# One stretch for each way, in the order of the ways, to the stretch OTHER.
+OTHER = (10, 20)
+LAID = [
+    (1, 5), (1, 10), (1, 15), (1, 20), (1, 25), (10, 15), (10, 20),
+    (10, 25), (12, 15), (12, 20), (12, 25), (20, 25), (22, 25),
+]
+
 SAME = 1 << 6
 EVERY_SET = range(8192)
+
+
+def members(mask):
+    """The ways of a set, rising."""
+    return [number for number in range(13) if mask >> number & 1]
 
 
 def stretches(times):

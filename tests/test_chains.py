@@ -2,15 +2,11 @@ import unittest
 
 from spanways.chains import chained, chained_sets, sample
 from spanways.ways import ALL, turned, way_between
-from tests.table import EVERY_SET, SAME, chains, way
+from tests.table import EVERY_SET, SAME, chains, members, way
 
 WAYS = range(13)
 # Six times show every way in which three stretches can lie; the seventh gives room beyond.
 SHOWN = chains(range(7))
-
-
-def members(mask):
-    return [number for number in WAYS if mask >> number & 1]
 
 
 def by_single_ways(one, other):

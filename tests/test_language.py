@@ -19,6 +19,16 @@ REFUSED = [
     "# a type\n", "# a\ttab\n", "A = '\u00e4'\n", "A = '" + "a" * 120 + "'\n", "A = 1\n" * 401,
     "def f():\n" + "    pass\n" * 40, "def f():\n    return 'a'.title()\n", "def f(a):\n    with a:\n        pass\n",
     "def f(a):\n    return f'{a + 1}'\n", "def f():\n    return 'a % b'\n",
+    "from spanways.ways import ALL\n\n\ndef f(ALL):\n    return ALL\n", "def f(a):\n    return zip(a, a)\n",
+    "class A:\n    pass\n\n\ndef f():\n    A = 1\n    return A\n", "def f(a):\n    b = a.items()\n    return b\n",
+    "def f(a):\n    return sorted(a, range(3))\n", "def f(a):\n    for b in set(a):\n        return b\n",
+    "def f(a):\n    b = set(a)\n    return b\n", "def f(a):\n    return sorted(set(a), reverse=True)\n",
+]
+
+KEPT = [
+    "def f(a):\n    return [b for b in zip(a, a)]\n", "def f(a):\n    return list(enumerate(a))\n",
+    "def f(a):\n    return len(set(a) - set([1])) == 2 and 3 in set(a)\n", "def f(a):\n    return sorted(set(a))\n",
+    "def f(a):\n    for b, c in a.items():\n        return b\n", "def f():\n    return max(range(3))\n",
 ]
 
 
@@ -68,6 +78,20 @@ class Language(unittest.TestCase):
             self.assertTrue(free, left)
             for name in free:
                 left.pop(name)
+
+    def test_no_name_is_a_method_in_one_class_and_a_value_in_another(self):
+        methods, values = set(), set()
+        for path in files():
+            for node in ast.walk(ast.parse(path.read_text(encoding="ascii"))):
+                if isinstance(node, ast.ClassDef):
+                    methods |= {part.name for part in node.body if isinstance(part, ast.FunctionDef)}
+                if isinstance(node, ast.Attribute) and isinstance(node.ctx, ast.Store):
+                    values.add(node.attr)
+        self.assertEqual(methods & values, set())
+
+    def test_what_the_rules_allow_is_let_be(self):
+        for source in KEPT:
+            self.assertEqual(faults(source), [], source)
 
     def test_what_is_outside_the_rules_is_seen(self):
         for source in REFUSED:

@@ -1,14 +1,8 @@
 import unittest
 
 from spanways.ways import ALL, turned, way_between, way_words, ways_in, zones
-from tests.table import EVERY_SET, TABLE, stretches, way
+from tests.table import EVERY_SET, LAID, OTHER, TABLE, stretches, way
 
-# One stretch for each way, in the order of the ways, to the stretch OTHER.
-OTHER = (10, 20)
-LAID = [
-    (1, 5), (1, 10), (1, 15), (1, 20), (1, 25), (10, 15), (10, 20),
-    (10, 25), (12, 15), (12, 20), (12, 25), (20, 25), (22, 25),
-]
 SIXTY = 10 ** 60 - 1
 
 
