@@ -1,7 +1,7 @@
 """Finds where a file of the package leaves the part of Python that the program keeps to.
 
-It sees what a look at single places of a file shows (of the rules L2 to L8, L10, L12, L14, L15, L17, L20, L21,
-L23 to L25 and L27); what hangs on how values are used from row to row is left to the reader.
+It sees what a look at single places of a file shows (of the rules L2 to L8, L10, L12, L14, L15, L17 to L28); what
+hangs on how values are used from row to row is left to the reader.
 """
 
 import ast
@@ -24,6 +24,17 @@ UNSAID = set("""
     type typing typing_extensions enum Enum IntEnum StrEnum Flag IntFlag Generic Protocol ABC ABCMeta namedtuple
     NamedTuple TypedDict TYPE_CHECKING abstractmethod
 """.split())
+NOT_NAMES = set("""
+    attrgetter breakpoint builtins compile copyright credits delattr dir eval exec exit gc getattr globals hasattr help
+    id importlib license locals methodcaller os quit setattr super type vars sys __name__
+""".split())
+KEYWORDS = {
+    "sorted": {"key", "reverse"}, "min": {"key", "default"}, "max": {"key", "default"}, "sum": {"start"},
+    "enumerate": {"start"}, "zip": {"strict"},
+}
+CHANGING = set("append clear extend insert pop remove reverse setdefault update".split())
+FREE_VALUES = set("count index title find get join lower upper split strip copy add".split())
+TAKEN_VALUES = {name for kind in (str, int, list, tuple, dict, set, bytes) for name in dir(kind)} | {"args"}
 NODES = (
     ast.Module, ast.ImportFrom, ast.alias, ast.FunctionDef, ast.arguments, ast.arg, ast.ClassDef, ast.Lambda,
     ast.Assign, ast.AugAssign, ast.If, ast.While, ast.For, ast.Return, ast.Break, ast.Continue, ast.Pass,
@@ -41,6 +52,8 @@ def faults(source, package="spanways"):
     found += top_faults(tree, package)
     found += shadow_faults(tree)
     found += place_faults(tree)
+    found += method_faults(tree)
+    found += loop_faults(tree)
     for node in ast.walk(tree):
         row = getattr(node, "lineno", 0)
         found += [(row, what) for what in node_faults(node, tree)]
@@ -95,6 +108,50 @@ def shadow_faults(tree):
         if bound and names_of(node)[0] in taken:
             found.append((node.lineno, f"L15 {names_of(node)[0]} is a class or an import of the file"))
     return found
+
+
+def method_faults(tree):
+    """Methods that neither Python's own values nor the file's classes may have, and values called like a method."""
+    own = {part.name for node in ast.walk(tree) if isinstance(node, ast.ClassDef) for part in node.body
+           if isinstance(part, ast.FunctionDef)}
+    found = []
+    for node in ast.walk(tree):
+        if isinstance(node, ast.Call) and isinstance(node.func, ast.Attribute):
+            if node.func.attr not in METHODS | own:
+                found.append((node.lineno, f"L25 the method {node.func.attr}"))
+            if node.func.attr in METHODS and node.keywords:
+                found.append((node.lineno, "L22 a keyword at a method of Python's own"))
+        if isinstance(node, ast.Attribute) and isinstance(node.ctx, ast.Store):
+            if node.attr in TAKEN_VALUES - FREE_VALUES or node.attr in own:
+                found.append((node.lineno, f"L18/L26 a value called {node.attr}"))
+    return found
+
+
+def loop_faults(tree):
+    """Loops that change the very list or dict that they walk."""
+    found = []
+    for loop in ast.walk(tree):
+        if isinstance(loop, ast.For):
+            for node in ast.walk(loop):
+                if changed_by(node) is not None and changed_by(node) in walked_names(loop.iter):
+                    found.append((node.lineno, "L23 what a loop walks is changed in it"))
+    return found
+
+
+def walked_names(value):
+    if called(value, {"enumerate", "zip", "reversed"}):
+        return [name for part in value.args for name in walked_names(part)]
+    if isinstance(value, ast.Call) and isinstance(value.func, ast.Attribute):
+        return walked_names(value.func.value)
+    return [ast.unparse(value)]
+
+
+def changed_by(node):
+    if isinstance(node, ast.Call) and isinstance(node.func, ast.Attribute) and node.func.attr in CHANGING:
+        return ast.unparse(node.func.value)
+    if isinstance(node, ast.Subscript) and isinstance(node.ctx, ast.Store):
+        return ast.unparse(node.value)
+    return None
 
 
 def called(node, names):
@@ -157,8 +214,10 @@ def node_faults(node, tree):
         found.append(f"L6/L7 {type(node).__name__}")
     for name in names_of(node):
         found += name_faults(name)
-    for check in (def_faults, statement_faults, value_faults):
+    for check in (def_faults, statement_faults, value_faults, error_faults, call_faults):
         found += check(node)
+    if isinstance(node, ast.Name) and node.id in NOT_NAMES:
+        found.append(f"L17 the name {node.id}")
     if isinstance(node, ast.Name) and isinstance(node.ctx, ast.Load):
         if node.id not in OWN_NAMES and node.id not in bound_names(tree):
             found.append(f"L8 {node.id} is not bound here")
@@ -262,3 +321,23 @@ def value_faults(node):
         if node.attr not in METHODS:
             found.append(f"L25 the method {node.attr}")
     return found
+
+
+def error_faults(node):
+    found = []
+    if isinstance(node, ast.Raise) and not (isinstance(node.exc, ast.Call) and isinstance(node.exc.func, ast.Name)):
+        found.append("L19 an error that is not made on the spot")
+    if isinstance(node, ast.ExceptHandler) and isinstance(node.type, ast.Name):
+        if node.type.id in {"Exception", "TypeError"}:
+            found.append(f"L19 except {node.type.id}")
+    if isinstance(node, ast.FunctionDef) and node.name == "__init__":
+        if any(isinstance(part, ast.Return) for part in ast.walk(node)):
+            found.append("L28 a return in __init__")
+    return found
+
+
+def call_faults(node):
+    if not isinstance(node, ast.Call) or not isinstance(node.func, ast.Name) or node.func.id not in OWN_NAMES:
+        return []
+    allowed = KEYWORDS.get(node.func.id, set())
+    return ["L22 a keyword at a name of Python's own" for keyword in node.keywords if keyword.arg not in allowed]

@@ -5,8 +5,9 @@ Also what the tests draw: stretches, nets and facts, always from a seeded source
 
 import copy
 import functools
+import itertools
 
-from tests.table import LAID, OTHER, SAME, chains, members, way
+from tests.table import LAID, OTHER, SAME, chains, members, stretches, way
 
 ALL = 8191
 CHAINS = chains(range(6))
@@ -370,3 +371,70 @@ def tight_facts(rng, count, groups):
         facts.append(("one", [drawn_ways(rng, count, 0.3) for _ in range(rng.randint(1, 4))]))
     rng.shuffle(facts)
     return facts
+
+
+def too_many_in_one(count, long):
+    """All but the last are 1 long, lie in the last one and apart from each other."""
+    last = count - 1
+    facts = [("long", last, 0, long)]
+    for i in range(last):
+        facts += [("long", i, 1, 1), ("ways", i, INSIDE, last)]
+        facts += [("ways", i, APART, j) for j in range(i + 1, last)]
+    return facts
+
+
+def clash_of(splits):
+    """Facts about six stretches that clash behind so many splits, from 196 to 202."""
+    facts = too_many_in_one(6, 4) + [("ways", 0, APART & ~2, 3)]
+    return facts + [("one", [("ways", 0, ALL, 1)])] * (splits - 196)
+
+
+def short_facts(rng):
+    """Facts about two stretches, both of which are at most 2 long."""
+    facts = drawn_facts(rng, 2, rng.choice([0, 1]), 0, rng.choice([0, 1, 2]))
+    for i in range(2):
+        low = rng.randint(0, 2)
+        facts.append(("long", i, low, rng.randint(low, 2)))
+    return facts
+
+
+@functools.lru_cache(maxsize=None)
+def short_places():
+    """Every way in which two such lie, in grains: the first one starts at 12, so the other one may lie anywhere."""
+    return [
+        [(12, 12 + long), (start, start + other)]
+        for long in range(1, 11) for other in range(1, 11) for start in range(35 - other)
+    ]
+
+
+@functools.lru_cache(maxsize=None)
+def arrangements(count):
+    """For each way in which two or three stretches can lie to one another, stretches that lie so."""
+    found = {}
+    for laid in itertools.product(stretches(range(2 * count)), repeat=count):
+        found[tuple(way(*pair) for pair in itertools.combinations(laid, 2))] = list(laid)
+    return list(found.values())
+
+
+def net_of(laid):
+    return [[1 << way(one, other) for other in laid] for one in laid]
+
+
+def arrangements_keeping(count, facts):
+    """Those in which the stretches can lie where they keep the facts, some lengths among them or not."""
+    others = [fact for fact in facts if fact[0] != "long"]
+    return [
+        laid for laid in arrangements(count)
+        if all_kept(laid, others) and can_be_kept(2 * count, bounds_of(net_of(laid), lengths_of(facts)))
+    ]
+
+
+# What the asker does to what is told
+
+def spoil(thing):
+    """Empties every list within what was told."""
+    for part in thing:
+        if isinstance(part, (list, tuple)):
+            spoil(part)
+    if isinstance(thing, list):
+        thing.clear()

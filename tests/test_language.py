@@ -12,7 +12,8 @@ REFUSED = [
     "print(1)\n", "A = 1\nA = 2\n", "A = [[1]]\n", "def f(*a):\n    return a\n", "def f(a: int):\n    return a\n",
     "def f(len):\n    return len\n", "def f():\n    global a\n", "def f():\n    a = b = 1\n",
     "def f():\n    a, b = 1, 2\n", "def f():\n    yield 1\n", "def f():\n    return 1 / 2\n",
-    "def f():\n    return 1.5\n", "def f():\n    return {a for a in [1]}\n", "def f():\n    return any(a for a in [1])\n",
+    "def f():\n    return 1.5\n", "def f():\n    return {a for a in [1]}\n",
+    "def f():\n    return any(a for a in [1])\n",
     "def f(a):\n    return [b for c in a for b in c]\n", "def f():\n    return open('a')\n",
     "def f(a):\n    return map(str, a)\n", "def f(a):\n    return a is 1 + 1\n", "def f(n):\n    return 2 ** n\n",
     "def _f():\n    return 1\n", "class A:\n    b = 1\n", "class A:\n    def __add__(self, other):\n        return 1\n",
@@ -23,12 +24,23 @@ REFUSED = [
     "class A:\n    pass\n\n\ndef f():\n    A = 1\n    return A\n", "def f(a):\n    b = a.items()\n    return b\n",
     "def f(a):\n    return sorted(a, range(3))\n", "def f(a):\n    for b in set(a):\n        return b\n",
     "def f(a):\n    b = set(a)\n    return b\n", "def f(a):\n    return sorted(set(a), reverse=True)\n",
+    "def f(a):\n    return a.title()\n", "def f(a):\n    return a.split(sep=' ')\n",
+    "def f(a):\n    return int(a, base=2)\n", "def f():\n    raise ValueError\n", "def f(os):\n    return os\n",
+    "class A:\n    def __init__(self):\n        self.items = 1\n",
+    "class A:\n    def __init__(self):\n        return None\n",
+    "class A:\n    def b(self):\n        self.b = 1\n", "def f(a):\n    for b in a:\n        a.append(b)\n",
+    "def f(a):\n    for b, c in enumerate(a):\n        a[b] = c\n", "def f(a):\n    raise a\n",
+    "def f(a):\n    for b in a.keys():\n        a.pop(b)\n",
+    "def f(a):\n    try:\n        return a[0]\n    except TypeError:\n        return 1\n",
 ]
 
 KEPT = [
     "def f(a):\n    return [b for b in zip(a, a)]\n", "def f(a):\n    return list(enumerate(a))\n",
     "def f(a):\n    return len(set(a) - set([1])) == 2 and 3 in set(a)\n", "def f(a):\n    return sorted(set(a))\n",
     "def f(a):\n    for b, c in a.items():\n        return b\n", "def f():\n    return max(range(3))\n",
+    "def f(a):\n    for b in list(a):\n        a.pop(b)\n", "def f(a):\n    for b in a:\n        b.append(1)\n",
+    "class A:\n    def __init__(self):\n        self.count = 1\n\n    def add(self, b):\n        self.add(b)\n",
+    "def f(a):\n    raise ValueError(a)\n", "def f(a):\n    return list(enumerate(a, start=1))\n",
 ]
 
 

@@ -6,22 +6,12 @@ from spanways.nets import rounded
 from spanways.plans import planned
 from spanways.trees import follows
 from tests.oracle import (
-    ALL, APART, INSIDE, all_kept, closed, drawn_facts, drawn_stretches, facts_kept_by, is_tree, lie_in, next_split,
-    plan, shape, starting_net, tight_facts, turn,
+    ALL, all_kept, closed, drawn_facts, drawn_stretches, facts_kept_by, is_tree, lie_in, next_split, plan, shape,
+    short_facts, short_places, spoil, starting_net, tight_facts, too_many_in_one, turn,
 )
 from tests.table import members, rectangles, way
 
 TAME = sorted(rectangles())
-
-
-def too_many_in_one(count, long):
-    """All but the last are 1 long, lie in the last one and apart from each other."""
-    last = count - 1
-    facts = [("long", last, 0, long)]
-    for i in range(last):
-        facts += [("long", i, 1, 1), ("ways", i, INSIDE, last)]
-        facts += [("ways", i, APART, j) for j in range(i + 1, last)]
-    return facts
 
 
 class Planned(unittest.TestCase):
@@ -189,18 +179,10 @@ class Planned(unittest.TestCase):
     def test_against_all_stretches_of_some_grains(self):
         rng = random.Random(4)
         seen = {"laid": 0, "clash": 0}
-        # Both are at most 2 long: ten grains. The first one starts at 12, so the other one may lie anywhere.
-        places = [
-            [(12, 12 + long), (start, start + other)]
-            for long in range(1, 11) for other in range(1, 11) for start in range(35 - other)
-        ]
         for _ in range(60):
-            facts = drawn_facts(rng, 2, rng.choice([0, 1]), 0, rng.choice([0, 1, 2]))
-            for i in range(2):
-                low = rng.randint(0, 2)
-                facts.append(("long", i, low, rng.randint(low, 2)))
+            facts = short_facts(rng)
             told = self.hold(2, facts, 200)
-            self.assertEqual(told[0] == "laid", any(all_kept(place, facts) for place in places), facts)
+            self.assertEqual(told[0] == "laid", any(all_kept(place, facts) for place in short_places()), facts)
             seen[told[0]] += 1
         self.assertGreater(min(seen.values()), 10, seen)
 
@@ -295,15 +277,6 @@ class Planned(unittest.TestCase):
                 facts[0][1].clear()
             facts.clear()
             self.assertEqual(answer, told)
-
-
-def spoil(thing):
-    """Empties every list within what was told."""
-    for part in thing:
-        if isinstance(part, (list, tuple)):
-            spoil(part)
-    if isinstance(thing, list):
-        thing.clear()
 
 
 class TameFacts(unittest.TestCase):
